@@ -60,6 +60,12 @@ class Machine:
     def moves(self):
         return list(self.sorted_moves)
 
+    def signs(self):
+        return dict(self.sign_by_deed)
+
+    def faults(self):
+        return list(self.fault_deeds)
+
     def sign_of(self, deed):
         return self.sign_by_deed.get(deed)
 

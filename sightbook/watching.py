@@ -4,6 +4,8 @@ All answers come of one search over states (seen, room, faulty): how many of the
 where the machine is, and whether a fault has come by then.
 """
 
+from sightbook.ways import reach, way_to
+
 
 # None where the deed has a sign that is not the one due.
 def seen_after(machine, sights, seen, deed):
@@ -25,23 +27,11 @@ def steps_from(machine, sights, seen, room, faulty):
     return steps
 
 
-# Each state reached, in the order of the fewest moves to it, with the state and the move that led to it.
 # Going by fewest moves keeps the told runs short: with 40 sights and 8 rooms there are 41 stretches between signs
 # of at most 7 unseen moves each, and one stretch may be gone twice for the sake of a fault: at most 335 moves.
 def search(machine, sights):
-    came_by = {}
-    for room in machine.starts():
-        came_by[(0, room, False)] = None
-    front = list(came_by)
-    while front:
-        reached = []
-        for state in front:
-            for move, after in steps_from(machine, sights, state[0], state[1], state[2]):
-                if after not in came_by:
-                    came_by[after] = (state, move)
-                    reached.append(after)
-        front = reached
-    return came_by
+    starts = [(0, room, False) for room in machine.starts()]
+    return reach(starts, lambda state: steps_from(machine, sights, state[0], state[1], state[2]))
 
 
 def ends_of(came_by, sights):
@@ -49,12 +39,8 @@ def ends_of(came_by, sights):
 
 
 def run_back(came_by, state):
-    moves = []
-    while came_by[state] is not None:
-        moves.append(came_by[state][1])
-        state = came_by[state][0]
-    moves.reverse()
-    return (state[1], moves)
+    way = way_to(came_by, state)
+    return (way[0][1], way[1])
 
 
 def possible(machine, sights):

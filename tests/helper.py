@@ -122,3 +122,90 @@ def some_sights(machine, chance, length):
     if sights and chance.random() < 0.2:
         sights[chance.randrange(len(sights))] = chance.choice(signs_in(machine))
     return sights
+
+
+def walked(machine, run):
+    """(end, signs, deeds behind the first fault or None) of a run of the machine; None where it is none."""
+    start, moves = run
+    if start not in machine.starts():
+        return None
+    room, signs, behind = start, [], None
+    for move in moves:
+        if move not in machine.moves() or move[0] != room:
+            return None
+        room = move[2]
+        if machine.sign_of(move[1]) is not None:
+            signs.append(machine.sign_of(move[1]))
+        if behind is not None:
+            behind += 1
+        elif machine.is_fault(move[1]):
+            behind = 0
+    return room, signs, behind
+
+
+def clear_closed(machine, rooms):
+    """The rooms, and those that unseen deeds which are no faults lead to from there."""
+    return frozenset(room for room, fault in closed_by_unseen(machine, {(room, False) for room in rooms}) if not fault)
+
+
+def clear_behind(machine, clear, deed):
+    """Where a run without a fault may be that kept up with the signs, once this deed was done too."""
+    sign = machine.sign_of(deed)
+    if sign is None:
+        return clear
+    return clear_closed(machine, {last for first, its, last in machine.moves()
+                                  if first in clear and machine.sign_of(its) == sign and not machine.is_fault(its)})
+
+
+class Followed:
+    """A machine's places (room, clear rooms): where it may be, and where clear runs may be that kept up with it."""
+
+    def __init__(self, machine):
+        self.machine = machine
+        self.known = {}
+
+    def place(self, room, rooms):
+        return room, clear_closed(self.machine, rooms)
+
+    def steps(self, place):
+        """The places one move on, with the deed; none where no clear run keeps up."""
+        if place not in self.known:
+            room, clear = place
+            found = [(deed, (last, clear_behind(self.machine, clear, deed)))
+                     for first, deed, last in self.machine.moves() if first == room]
+            self.known[place] = [(deed, after) for deed, after in found if after[1]]
+        return self.known[place]
+
+    def moves_on(self, place):
+        """How many moves can be made from there; None where there is no end of them."""
+        front = {place}
+        for count in range(self.machine.size ** 2 + 1):
+            front = {after for before in front for deed, after in self.steps(before)}
+            if not front:
+                return count
+        return None
+
+
+def spread(front, steps):
+    """All that the steps lead to from the front, and the front."""
+    found = set(front)
+    while front:
+        front = {after for place in front for after in steps(place)} - found
+        found |= front
+    return found
+
+
+def due_delay(machine):
+    """The delay or None, and where there is one, the ranks of all met pairs: by the rooms where clear runs may be."""
+    course = Followed(machine)
+    ahead = spread({course.place(room, machine.starts()) for room in machine.starts()}, lambda place: [
+        after for deed, after in course.steps(place) if not machine.is_fault(deed)])
+    firsts = {after for place in ahead for deed, after in course.steps(place) if machine.is_fault(deed)}
+    counts = []
+    for place in firsts:
+        counts.append(course.moves_on(place))
+        if counts[-1] is None:
+            return None, None
+    met = spread(firsts, lambda place: [after for deed, after in course.steps(place)])
+    pairs = {(room, other) for room, others in met for other in others}
+    return max(counts, default=-1) + 1, {(x, y): course.moves_on(course.place(x, {y})) for x, y in pairs}

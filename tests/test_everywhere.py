@@ -1,12 +1,17 @@
 """Points 1 to 3: what holds everywhere."""
 
 import copy
+import random
 import unittest
 
-from helper import FAR_NUMBERS, GREAT, refusal, told, watched_door
+from helper import FAR_NUMBERS, GREAT, refusal, some_machines, told, watched_door
+from sightbook.delays import delay
 from sightbook.errors import NoRoom, NoSight, NoWord, SightError, TooGreat
+from sightbook.fewest import fewest, watched
 from sightbook.machines import Machine
 from sightbook.runs import has_fault, is_run, signs_of
+from sightbook.secrets import secret
+from sightbook.watchers import Watcher
 from sightbook.watching import possible, run_to, run_with, verdict
 
 DOOR_RUN = (0, [(0, "walk", 1), (1, "ring", 2), (2, "slip", 3), (3, "walk", 0)])
@@ -35,11 +40,37 @@ def questions(machine):
             calls.append(lambda sights=sights, room=room: run_to(machine, sights, room))
         for fault in [True, False]:
             calls.append(lambda sights=sights, fault=fault: run_with(machine, sights, fault))
+        calls.append(lambda sights=sights: watcher_behind(machine, sights))
+    calls.append(lambda: delay(machine))
+    for rooms in [[], [0], [1, 0, 1], [2], [3], list(range(machine.size))]:
+        calls.append(lambda rooms=rooms: told(refusal(secret, machine, rooms)) or secret(machine, rooms))
+    for deeds in [[], ["go"], ["stay", "go", "stay"], ["ring", "walk", "slip", "break"]]:
+        calls.append(lambda deeds=deeds: watched(machine, deeds))
+        calls.append(lambda deeds=deeds: delay(watched(machine, deeds)))
+        calls.append(lambda deeds=deeds: fewest(machine, deeds))
     return calls
 
 
+def watcher_behind(machine, sights):
+    """All that a new watcher tells behind each of these signs, refused ones too."""
+    watcher = Watcher(machine)
+    found = [(watcher.rooms(), watcher.verdict(), watcher.sights())]
+    for sign in sights:
+        found.append((told(refusal(watcher.see, sign)), watcher.rooms(), watcher.verdict(), watcher.sights()))
+    return found
+
+
+def plain(thing):
+    """A copy that can be compared: a machine by all that it tells."""
+    if isinstance(thing, Machine):
+        words = ["go", "stay", "other", "walk", "ring", "knock", "slip", "break", "step", "noise", "sound", "z"]
+        return (thing.size, thing.starts(), thing.moves(),
+                [(thing.sign_of(word), thing.is_fault(word)) for word in words])
+    return copy.deepcopy(thing)
+
+
 def answers(machine):
-    return [copy.deepcopy(call()) for call in questions(machine)]
+    return [plain(call()) for call in questions(machine)]
 
 
 def spoil(thing):
@@ -48,9 +79,13 @@ def spoil(thing):
         for part in thing:
             spoil(part)
     if isinstance(thing, list):
+        for part in thing:
+            spoil(part)
         thing.reverse()
         thing.append("spoiled")
         thing.extend([7, (0, "go", 0)])
+    if isinstance(thing, Machine):
+        thing.__init__(1, [], [(0, "spoiled", 0)], {"go": "spoiled"}, ["go", "walk"])
 
 
 class HandedIn(unittest.TestCase):
@@ -120,6 +155,44 @@ class HandedIn(unittest.TestCase):
         walked[1].clear()
         self.assertEqual(signs, ["sound"])
 
+    def test_asking_changes_no_rooms_and_no_deeds(self):
+        machine = watched_door()
+        for rooms in [[], [3, 1, 1, 0], [2, 0, 1, 3, 2], [0, 9, 1], [-1]]:
+            kept = list(rooms)
+            refusal(secret, machine, rooms)
+            self.assertEqual(rooms, kept)
+        for deeds in [[], ["walk", "ring", "walk"], ["z", "slip", "break", "a"], ["walk", "B", "a"], [""]]:
+            kept = list(deeds)
+            refusal(watched, machine, deeds)
+            refusal(fewest, machine, deeds)
+            self.assertEqual(deeds, kept)
+
+    def test_asking_changes_no_machine(self):
+        machine = watched_door()
+        before = plain(machine)
+        for call in questions(machine):
+            call()
+            self.assertEqual(plain(machine), before)
+
+    def test_rooms_and_deeds_changed_afterwards(self):
+        machine = watched_door()
+        rooms, deeds = [0, 1], ["slip", "ring"]
+        given, seen, few = secret(machine, rooms), watched(machine, deeds), fewest(machine, deeds)
+        kept = plain(given), plain(seen), plain(few)
+        for thing in [rooms, deeds]:
+            thing.clear()
+        rooms.append(3)
+        deeds.append("walk")
+        self.assertEqual((plain(given), plain(seen), plain(few)), kept)
+
+    def test_a_machine_changed_afterwards(self):
+        for handed, same in [(Machine(*parts()), Machine(*parts())), (watched_door(), watched_door())]:
+            seen, watcher, course = watched(handed, ["go", "walk"]), Watcher(handed), delay(handed)
+            spoil(handed)
+            self.assertEqual(answers(seen), answers(watched(same, ["go", "walk"])))
+            self.assertEqual(course, delay(same))
+            self.assertEqual((watcher.rooms(), watcher.verdict()), (possible(same, []), verdict(same, [])))
+
 
 class ToldOnes(unittest.TestCase):
     def test_changing_what_was_told_changes_no_answer(self):
@@ -132,10 +205,10 @@ class ToldOnes(unittest.TestCase):
     def test_asking_later_changes_nothing_told(self):
         machine = Machine(*parts())
         first = [call() for call in questions(machine)]
-        kept = copy.deepcopy(first)
+        kept = [plain(thing) for thing in first]
         for thing in [call() for call in questions(machine)]:
             spoil(thing)
-        self.assertEqual(first, kept)
+        self.assertEqual([plain(thing) for thing in first], kept)
 
     def test_asking_again_tells_the_same(self):
         machine = Machine(*parts())
@@ -143,8 +216,19 @@ class ToldOnes(unittest.TestCase):
         for count in range(3):
             self.assertEqual(answers(machine), before)
         calls = questions(machine)
-        backwards = [copy.deepcopy(call()) for call in reversed(calls)]
+        backwards = [plain(call()) for call in reversed(calls)]
         self.assertEqual(list(reversed(backwards)), before)
+
+    def test_asking_many_machines_in_any_order(self):
+        chance = random.Random(61)
+        machines = [Machine(*parts()), watched_door()] + some_machines(62, 6, 5, 10)
+        asked = [(call, plain(call())) for machine in machines for call in questions(machine)]
+        for count in range(2):
+            chance.shuffle(asked)
+            for call, before in asked:
+                answer = call()
+                self.assertEqual(plain(answer), before)
+                spoil(answer)
 
     def test_no_truth_value_is_told_as_a_number(self):
         machine = Machine(*parts())
@@ -152,6 +236,12 @@ class ToldOnes(unittest.TestCase):
         numbers = [machine.size, told_run[0]] + machine.starts() + possible(machine, ["step"])
         for first, deed, last in machine.moves() + told_run[1]:
             numbers.extend([first, last])
+        for x, y, rank in delay(watched_door())[2]:
+            numbers.extend([x, y, rank])
+        never = delay(machine)
+        numbers.extend([never[2], never[4], delay(watched_door())[1], delay(Machine(1, [], [], {}, []))[1]])
+        for rooms in secret(machine, [])[1] + [Watcher(machine).rooms()]:
+            numbers.extend(rooms)
         for number in numbers:
             self.assertIs(type(number), int)
 

@@ -45,6 +45,13 @@ def defined():
     return names | {node.attr for place, node in nodes(ast.Attribute) if isinstance(node.ctx, ast.Store)}
 
 
+def called_name(node):
+    """The name of the function or method that is called there, or None."""
+    if not isinstance(node, ast.Call):
+        return None
+    return node.func.id if isinstance(node.func, ast.Name) else getattr(node.func, "attr", None)
+
+
 class Files(unittest.TestCase):
     def test_names_and_signs(self):
         self.assertIn("__init__.py", [path.name for path in files()])
@@ -144,8 +151,9 @@ class Within(unittest.TestCase):
                 self.assertNotIn(name, vars(builtins), place)
 
     def test_attributes(self):
+        known = METHODS | DUNDERS | defined()
         for place, node in nodes(ast.Attribute):
-            self.assertIn(node.attr, METHODS | DUNDERS | defined(), (place, node.lineno))
+            self.assertIn(node.attr, known, (place, node.lineno))
         for place, node in nodes(ast.ClassDef):
             for part in node.body:
                 self.assertIsInstance(part, (ast.FunctionDef, ast.Pass), (place, node.name))
@@ -157,6 +165,51 @@ class Within(unittest.TestCase):
         self.assertFalse(methods & stored)
         pythons = {name for kind in (str, int, list, dict, set, bytes) for name in dir(kind)}
         self.assertFalse(stored & pythons)
+
+    def test_no_local_is_called_like_an_import_or_a_class_of_its_file(self):
+        for path, tree in trees():
+            taken = {alias.name for node in tree.body if isinstance(node, ast.ImportFrom) for alias in node.names}
+            taken |= {node.name for node in tree.body if isinstance(node, ast.ClassDef)}
+            for node in ast.walk(tree):
+                if isinstance(node, ast.arg):
+                    self.assertNotIn(node.arg, taken, (path.name, node.lineno))
+                if isinstance(node, ast.Name) and isinstance(node.ctx, ast.Store):
+                    self.assertNotIn(node.id, taken, (path.name, node.lineno))
+
+    def test_classes_are_called_and_nothing_else(self):
+        classes = {node.name for place, node in nodes(ast.ClassDef)}
+        used = {ast.Call: "func", ast.Attribute: "value"}
+        for path, tree in trees():
+            for parent in ast.walk(tree):
+                for node in ast.iter_child_nodes(parent):
+                    if isinstance(node, ast.Name) and node.id in classes and not isinstance(parent, ast.ClassDef):
+                        self.assertIn(type(parent), used, (path.name, node.lineno))
+                        self.assertIs(getattr(parent, used[type(parent)]), node, (path.name, node.lineno))
+
+    def test_walked_on_the_spot(self):
+        for path, tree in trees():
+            for parent in ast.walk(tree):
+                for node in ast.iter_child_nodes(parent):
+                    if called_name(node) in ("zip", "enumerate", "reversed", "range", "items", "keys", "values"):
+                        walked = isinstance(parent, (ast.For, ast.comprehension)) and parent.iter is node
+                        taken = called_name(parent) in ("list", "tuple", "dict", "sorted", "sum", "any", "all")
+                        self.assertTrue(walked or taken, (path.name, node.lineno))
+
+    def test_keywords(self):
+        allowed = {"sorted": {"key", "reverse"}, "min": {"key", "default"}, "max": {"key", "default"},
+                   "sum": {"start"}, "enumerate": {"start"}, "zip": {"strict"}}
+        for place, node in nodes(ast.Call):
+            if called_name(node) in OWN_NAMES | METHODS:
+                self.assertLessEqual({word.arg for word in node.keywords}, allowed.get(called_name(node), set()), place)
+
+    def test_powers_are_written(self):
+        for place, node in nodes(ast.BinOp):
+            if isinstance(node.op, ast.Pow):
+                self.assertIsInstance(node.right, ast.Constant, place)
+
+    def test_what_lambdas_read_is_not_assigned_in_loops_around_them(self):
+        for place, node in nodes(ast.For, ast.While):
+            self.assertFalse([part for part in ast.walk(node) if isinstance(part, ast.Lambda)], (place, node.lineno))
 
     def test_is_beside_none_true_and_false_alone(self):
         for place, node in nodes(ast.Compare):

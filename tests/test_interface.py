@@ -3,7 +3,7 @@
 import inspect
 import unittest
 
-from sightbook import errors, machines, runs, watching
+from sightbook import delays, errors, fewest, machines, runs, secrets, watchers, watching
 
 
 def arguments(thing):
@@ -20,6 +20,10 @@ class Interface(unittest.TestCase):
             (watching.verdict, ["machine", "sights"]),
             (watching.run_to, ["machine", "sights", "room"]),
             (watching.run_with, ["machine", "sights", "fault"]),
+            (delays.delay, ["machine"]),
+            (secrets.secret, ["machine", "rooms"]),
+            (fewest.watched, ["machine", "deeds"]),
+            (fewest.fewest, ["machine", "deeds"]),
         ]:
             self.assertEqual(arguments(thing), names)
 
@@ -30,13 +34,16 @@ class Interface(unittest.TestCase):
             (errors.NoRoom, ["room"]),
             (errors.NoWord, ["word"]),
             (errors.NoSight, ["sign"]),
+            (watchers.Watcher, ["machine"]),
         ]:
             self.assertEqual(arguments(thing), names)
 
     def test_methods(self):
         machine = machines.Machine(2, [0], [(0, "go", 1)], {"go": "gone"}, ["go"])
+        watcher = watchers.Watcher(machine)
         for method, names in [
             (machine.starts, []), (machine.moves, []), (machine.sign_of, ["deed"]), (machine.is_fault, ["deed"]),
+            (watcher.see, ["sign"]), (watcher.rooms, []), (watcher.verdict, []), (watcher.sights, []),
         ]:
             self.assertEqual(arguments(method), names)
 
@@ -53,6 +60,13 @@ class Interface(unittest.TestCase):
         self.assertEqual(watching.verdict(machine=machine, sights=["gone"]), "sure")
         self.assertEqual(watching.run_to(machine=machine, sights=["gone"], room=1), run)
         self.assertEqual(watching.run_with(machine=machine, sights=["gone"], fault=True), run)
+        self.assertEqual(delays.delay(machine=machine), ("within", 0, [], None))
+        self.assertEqual(secrets.secret(machine=machine, rooms=[1]), ("given", ["gone"]))
+        self.assertEqual(fewest.watched(machine=machine, deeds=["go"]).sign_of("go"), "go")
+        self.assertEqual(fewest.fewest(machine=machine, deeds=["go"]), [])
+        watcher = watchers.Watcher(machine=machine)
+        self.assertIsNone(watcher.see(sign="gone"))
+        self.assertEqual((watcher.rooms(), watcher.verdict(), watcher.sights()), ([1], "sure", ["gone"]))
 
 
 if __name__ == "__main__":
